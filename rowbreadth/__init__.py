@@ -1,0 +1,1 @@
+"""Rowbreadth: rows of numbers on a machine of any breadth."""
