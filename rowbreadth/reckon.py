@@ -105,12 +105,20 @@ FREE_FOLDS = {
 ORDERED_FOLDS = {"chain": chained, "capped": capped}
 
 
+def is_sign(word):
+    return word in SIGNS
+
+
 def done(sign, left, right):
     return SIGNS[sign](left, right)
 
 
 def free(fold):
     return fold in FREE_FOLDS
+
+
+def is_fold(word):
+    return free(word) or word in ORDERED_FOLDS
 
 
 def joined(fold, run, number):

@@ -4,7 +4,7 @@ from fractions import Fraction
 from math import floor
 
 from rowbreadth.errors import ByNought
-from rowbreadth.reckon import CAP, HALF, done, free, joined, kept
+from rowbreadth.reckon import CAP, HALF, done, free, is_fold, is_sign, joined, kept
 
 LOW = -(2 ** 63)
 HIGH = 2 ** 63 - 1
@@ -202,6 +202,14 @@ class Folds(unittest.TestCase):
         early = joined("capped", joined("capped", CAP, CAP), -CAP)
         late = joined("capped", CAP, joined("capped", CAP, -CAP))
         self.assertEqual([early, late], [0, CAP])
+
+
+class TheirWords(unittest.TestCase):
+    def test_which_words_are_signs_and_folds(self):
+        for word in SIGNS + FOLDS + ["", "a", "at", "Sum", "sums", "=="]:
+            with self.subTest(word=word):
+                self.assertIs(is_sign(word), word in SIGNS)
+                self.assertIs(is_fold(word), word in FOLDS)
 
 
 if __name__ == "__main__":

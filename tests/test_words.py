@@ -1,6 +1,10 @@
 import unittest
 
-from rowbreadth.words import words_of
+from rowbreadth.words import is_name, number_in, words_of
+
+HALF = 2 ** 63
+KEPT = ("row def let put fold run till end at in of into where most here shift if rest least sum product both either odd"
+        " chain capped").split()
 
 
 class Words(unittest.TestCase):
@@ -47,6 +51,43 @@ class Words(unittest.TestCase):
         first = words_of("a b")
         first.append("c")
         self.assertEqual(words_of("a b"), ["a", "b"])
+
+
+class Names(unittest.TestCase):
+    def test_names(self):
+        for word in ("a", "z", "abc", "abcdefghijkl", "zzzzzzzzzzzz", "rows", "ro", "e", "hereat", "and"):
+            with self.subTest(word=word):
+                self.assertIs(is_name(word), True)
+
+    def test_no_names(self):
+        for word in ("", "abcdefghijklm", "A", "aB", "a1", "1", "a_b", "a-b", "(", ")", "=", "+", "-", "a.", "{", "`"):
+            with self.subTest(word=word):
+                self.assertIs(is_name(word), False)
+
+    def test_kept_words(self):
+        self.assertEqual(len(KEPT), 26)
+        for word in KEPT:
+            with self.subTest(word=word):
+                self.assertIs(is_name(word), False)
+
+
+class Numbers(unittest.TestCase):
+    def test_numbers(self):
+        for number in (0, 1, -1, 9, 10, -10, 400, 10 ** 18, HALF - 1, -HALF):
+            self.assertEqual(number_in(str(number)), number)
+
+    def test_no_numbers(self):
+        for word in ("", "-", "-0", "00", "007", "-07", "+1", "--1", "1-", "1.0", "1e3", "0x1", "a", "1a", "1_0", "- 1"):
+            with self.subTest(word=word):
+                self.assertIsNone(number_in(word))
+
+    def test_beyond_what_is_kept(self):
+        for number in (HALF, -HALF - 1, HALF * 2, 10 ** 19, -(10 ** 19), 10 ** 300):
+            self.assertIsNone(number_in(str(number)))
+
+    def test_more_figures_than_python_reads(self):
+        self.assertIsNone(number_in("9" * 5900))
+        self.assertIsNone(number_in("-" + "9" * 5900))
 
 
 if __name__ == "__main__":
