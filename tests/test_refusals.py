@@ -25,6 +25,8 @@ FORM_ENDS = {"let a": "where", "let a 1 where": "end", "put": "at", "put 1 at": 
              "fold sum": "into", "fold sum 1 into c of 3 where": "end", "run sum": "into",
              "run sum 1 into a where": "end"}
 WANTED = {
+    "def n p": "parameter", "def n p q r": "parameter", "def n p q r s": "parameter", "def n p q r s t": "parameter",
+    "def n p q r s t u =": "own form",
     "": "line", "row": "new", "row n": ("number", 1, 400), "row n 3": "end",
     "def": "new", "def n": "parameter", "def n p q": "parameter", "def n p q r s t u": ("word", "="),
     "def n p q =": "own form", "def n p q = 1": "end", "def n p q = ( + 1 1 )": "end",
@@ -61,6 +63,17 @@ WHOLE_FORMS = ["1", "here", "( + 1 1 )", "( at b 1 )", "( shift b 1 1 )", "( if 
 WHOLE_LINES = ["row n 3", "def n p q r s t u = 1", "def n p q = ( + 1 1 )", "def n p q = ( if p q p )",
                "def n p q = ( two 1 1 )", "def n p q = ( none )"]
 WHOLE_LINES += [f"{before} {form} {tail}" for before, tail in TAILS.items() for form in WHOLE_FORMS]
+
+
+def wanted_behind(before):
+    """What is wanted behind a beginning; which form stands whole in it makes no odds to what comes next."""
+    if before in WANTED:
+        return WANTED[before]
+    for form in WHOLE_FORMS[1:]:
+        plain = f"{before} ".replace(f" {form} ", " 1 ", 1).strip()
+        if plain != before and plain in WANTED:
+            return WANTED[plain]
+    raise KeyError(before)
 
 
 def due_at_form(word, known):
@@ -132,14 +145,15 @@ class AtEachWord(unittest.TestCase):
             self.assertIsNone(refusal_of(HEAD + line))
             for at in range(len(words)):
                 before = " ".join(words[:at])
-                for word in WORDS if before in WANTED else []:
-                    due = due_at(WANTED[before], word, before)
+                wanted = wanted_behind(before)
+                seen += 1
+                for word in WORDS:
+                    due = due_at(wanted, word, before)
                     if due is not None:
-                        seen += 1
                         with self.subTest(line=line, at=at, word=word):
                             changed = " ".join(words[:at] + [word] + words[at + 1:])
                             self.assertEqual(refusal_of(HEAD + changed), (due, 6))
-        self.assertGreater(seen, 20000)
+        self.assertEqual(seen, sum(len(line.split()) for line in WHOLE_LINES))
 
     def test_a_further_word_behind_whole_lines(self):
         for line in WHOLE_LINES + ["till a most 3"]:
