@@ -1,7 +1,8 @@
-"""What several tests of the reader share."""
+"""What several tests share."""
 
-from rowbreadth.errors import LineError
+from rowbreadth.errors import ByNought, LineError
 from rowbreadth.reader import read
+from rowbreadth.reckon import done, joined
 
 FIELDS = {
     "Number": ["number"], "Here": [], "Cell": ["row"], "Shifted": ["row", "by", "other"], "Local": ["at"],
@@ -10,6 +11,7 @@ FIELDS = {
     "Fold": ["target", "fold", "value", "many", "test"], "Running": ["target", "fold", "value", "test"],
     "Till": ["target", "most", "steps"], "Program": ["lengths", "functions", "steps"],
 }
+SEAT_WORDS = ("number", "here", "load", "spread", "shift", "gather", "op", "pick", "copy", "bring")
 
 
 def shown(thing):
@@ -29,3 +31,273 @@ def refusal_of(text):
     except LineError as e:
         return (type(e).__name__, e.line)
     return None
+
+
+class Unsound(Exception):
+    """The code read a lane that is not good, or named what is not there."""
+
+
+class Faulted(Exception):
+    """This lane faults."""
+
+
+class Model:
+    """The machine by the document's words, a lane at a time. A strict one minds that only good lanes are read."""
+
+    def __init__(self, lengths, cells, lanes, dust, strict=True):
+        self.strict = strict
+        self.lengths, self.cells, self.lanes = list(lengths), list(cells), lanes
+        self.dust, self.dust_used = list(dust), 0
+        self.boxes, self.masks, self.slots = {}, {}, {}
+        self.touches, self.at, self.refusal = [], 0, None
+        self.in_round, self.flag, self.turns = False, False, []
+
+    def dusted(self):
+        self.dust_used += 1
+        return self.dust[(self.dust_used - 1) % len(self.dust)] if self.dust else 0
+
+    def demand(self, truth, words):
+        if not truth:
+            raise Unsound(f"step {self.at}: {words}")
+
+    def demand_good(self, truth, words):
+        self.demand(truth or not self.strict, words)
+
+    def is_true(self, mask, lane):
+        self.demand_good(mask in self.good_masks, f"mask {mask} is read")
+        return self.masks.get((mask, lane), False)
+
+    # Rounds and strips.
+    def begin(self, many, group):
+        self.demand(1 <= many <= 400 and group in (1, 2, 4) and not self.in_round, "begin")
+        self.in_round, self.many, self.group, self.carried, self.opened = True, many, group, None, self.at
+        self.strip(0)
+
+    def strip(self, base):
+        self.base = base
+        self.began = self.width = min(self.many - base, self.group * self.lanes)
+        self.faults, self.cut = {}, None
+        self.good_seats, self.good_slots, self.good_masks = {}, {}, {0}
+        for lane in range(self.width):
+            self.masks[0, lane] = True
+        self.mask_beyond(0)
+
+    def mask_beyond(self, mask):
+        for lane in range(self.width, self.group * self.lanes):
+            self.masks[mask, lane] = self.dusted() % 2 != 0
+
+    def next(self):
+        if self.base + self.began < self.many:
+            self.strip(self.base + self.began)
+            self.at = self.opened
+        else:
+            self.in_round = False
+
+    # What a step reads.
+    def active(self, mask):
+        return [lane for lane in range(self.width) if self.is_true(mask, lane) and lane not in self.faults]
+
+    def seat_place(self, seat, lane):
+        self.demand(0 <= seat < 8 // self.group, f"seat {seat} is named")
+        return seat * self.group + lane // self.lanes, lane % self.lanes
+
+    def seat(self, seat, lane):
+        place = self.seat_place(seat, lane)
+        self.demand_good(lane in self.good_seats.get(seat, ()), f"lane {lane} of seat {seat} is read")
+        return self.boxes.get(place, 0)
+
+    def address(self, row, place):
+        self.demand(0 <= row < len(self.lengths) and 0 <= place < self.lengths[row], f"cell {place} of row {row}")
+        return sum(self.lengths[:row]) + place
+
+    def slot_address(self, slot, lane):
+        self.demand(0 <= slot <= 59, f"slot {slot} is named")
+        return len(self.cells) + slot * 4 * self.lanes + lane
+
+    def touch(self, kind, address):
+        self.touches.append((self.at, kind, address))
+
+    def read(self, row, place):
+        self.touch("read", self.address(row, place))
+        return self.cells[self.address(row, place)]
+
+    def write(self, row, place, number):
+        self.touch("write", self.address(row, place))
+        self.cells[self.address(row, place)] = number
+
+    # The steps that lay a seat.
+    def seat_step(self, step):
+        active, good = self.active(step[-1]), set()
+        self.spread = None
+        for lane in range(self.group * self.lanes):
+            number = None
+            if lane in active:
+                try:
+                    number = getattr(self, "lane_" + step[0])(lane, *step[2:])
+                    good.add(lane)
+                except Faulted as e:
+                    self.faults[lane] = str(e)
+            self.boxes[self.seat_place(step[1], lane)] = self.dusted() if number is None else number
+        self.good_seats[step[1]] = good
+
+    def lane_number(self, lane, number, m):
+        return number
+
+    def lane_here(self, lane, m):
+        return self.base + lane
+
+    def lane_load(self, lane, row, m):
+        return self.read(row, self.base + lane)
+
+    def lane_spread(self, lane, row, m):
+        if self.spread is None:
+            self.spread = self.read(row, 0)
+        return self.spread
+
+    def lane_shift(self, lane, row, by, other, m):
+        place = self.base + lane + by
+        return self.read(row, place) if 0 <= place < self.lengths[row] else other
+
+    def lane_gather(self, lane, q, row, m):
+        place = self.seat(q, lane)
+        if not 0 <= place < self.lengths[row]:
+            raise Faulted("outside")
+        return self.read(row, place)
+
+    def lane_op(self, lane, sign, q, r, m):
+        try:
+            return done(sign, self.seat(q, lane), self.seat(r, lane))
+        except ByNought:
+            raise Faulted("nought")
+
+    def lane_pick(self, lane, q, r, k, m):
+        return self.seat(q if self.is_true(k, lane) else r, lane)
+
+    def lane_copy(self, lane, q, m):
+        return self.seat(q, lane)
+
+    def lane_bring(self, lane, s, m):
+        self.demand_good(lane in self.good_slots.get(s, ()), f"lane {lane} of slot {s} is read")
+        self.touch("read", self.slot_address(s, lane))
+        return self.slots.get((s, lane), 0)
+
+    # The other steps of a strip.
+    def reach(self, p, length, m):
+        for lane in self.active(m):
+            if not 0 <= self.seat(p, lane) < length:
+                self.faults[lane] = "outside"
+
+    def trim(self):
+        for lane in range(self.width):
+            if lane in self.faults:
+                self.cut = self.width = lane
+                return
+
+    def stop(self, n):
+        if self.cut is not None:
+            self.refusal = (n, self.base + self.cut, self.faults[self.cut])
+
+    def choose(self, k, p, m, wanted=True):
+        self.demand(1 <= k <= 15, f"mask {k} is laid")
+        active = self.active(m)
+        truths = {lane: (self.seat(p, lane) != 0) == wanted for lane in active}
+        for lane in range(self.width):
+            self.masks[k, lane] = truths.get(lane, False)
+        self.mask_beyond(k)
+        self.good_masks.add(k)
+
+    def other(self, k, p, m):
+        self.choose(k, p, m, False)
+
+    def save(self, s, p, m):
+        self.good_slots[s] = set(self.active(m))
+        for lane in self.active(m):
+            self.touch("write", self.slot_address(s, lane))
+            self.slots[s, lane] = self.seat(p, lane)
+
+    def store(self, row, p, m):
+        for lane in self.active(m):
+            self.write(row, self.base + lane, self.seat(p, lane))
+
+    def put(self, row, q, p, m):
+        for lane in self.active(m):
+            self.write(row, self.seat(q, lane), self.seat(p, lane))
+
+    def fold(self, row, fold, p, m):
+        if self.active(m):
+            run = self.read(row, 0)
+            for lane in self.active(m):
+                run = joined(fold, run, self.seat(p, lane))
+            self.write(row, 0, run)
+
+    def running(self, row, fold, p, m):
+        for lane in self.active(m):
+            number = self.seat(p, lane)
+            self.carried = number if self.carried is None else joined(fold, self.carried, number)
+            self.write(row, self.base + lane, self.carried)
+
+    def any(self, p, m):
+        if any([self.seat(p, lane) != 0 for lane in self.active(m)]):
+            self.flag = True
+
+    # The steps outside of rounds.
+    def open_turns(self):
+        self.turns.append([self.at, 0])
+
+    def quiet(self):
+        self.flag = False
+
+    def till(self, most, n):
+        self.turns[-1][1] += 1
+        if self.flag:
+            self.turns.pop()
+        elif self.turns[-1][1] == most:
+            self.refusal = (n, most, "endless")
+        else:
+            self.at = self.turns[-1][0]
+
+    def play(self, step):
+        word = step[0]
+        self.demand(word == "begin" or self.in_round == (word not in ("turns", "quiet", "till")), f"{word} stands here")
+        if word in SEAT_WORDS:
+            self.seat_step(step)
+        else:
+            getattr(self, "open_turns" if word == "turns" else word)(*step[1:])
+
+    def run(self, code):
+        while self.at < len(code) and self.refusal is None:
+            self.play(code[self.at])
+            self.at += 1
+        self.demand(self.refusal or not (self.in_round or self.turns), "the end comes within a round or turns")
+        return self.cells, self.refusal, self.touches
+
+
+# Strips of each group: full ones, a last one that is not full, and one of a single element. (lanes, group, many, base)
+STRIPS = ((1, 1, 5, 2), (1, 4, 6, 4), (3, 1, 7, 6), (3, 2, 12, 6), (3, 2, 10, 6), (2, 4, 400, 8), (5, 4, 33, 20),
+          (64, 4, 400, 256), (64, 1, 1, 0))
+# Which lanes a mask has: all, none, some.
+PATTERNS = (lambda lane: True, lambda lane: False, lambda lane: lane % 2 == 0, lambda lane: lane % 3 == 1)
+DUST = [10 ** 6 + at for at in range(0, 3000, 7)]
+
+
+def strip_of(bench, group, many, base):
+    """Lets the bench begin a round's strip at that base, and then puts it at the dust's first number again."""
+    bench.open_round(many, group)
+    bench.begin_strip(base)
+    bench.dust.at = 0
+    return bench
+
+
+def seat_numbers(bench, seat):
+    return [bench.boxes.number_at(bench.group, seat, lane) for lane in range(bench.group * bench.lanes)]
+
+
+def lay_all(bench, seat, number_of):
+    """Every lane of the seat gets its number, whatever the mask and the width are."""
+    for lane in range(bench.group * bench.lanes):
+        bench.boxes.lay(bench.group, seat, lane, number_of(lane))
+
+
+def lay_truths(bench, mask, truth_of):
+    for lane in range(len(bench.masks[mask])):
+        bench.masks[mask][lane] = truth_of(lane)
