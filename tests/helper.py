@@ -1,8 +1,14 @@
 """What several tests share."""
 
+import random
+
+from rowbreadth.bench import Bench
 from rowbreadth.errors import ByNought, LineError
+from rowbreadth.forms import At, Call, Cell, Choice, Here, Local, Number, Pair, Shifted
+from rowbreadth.looks import depth_of, size_of
 from rowbreadth.reader import read
 from rowbreadth.reckon import done, joined
+from rowbreadth.steps import Fold, Let, Program, Put, Running, Till
 
 FIELDS = {
     "Number": ["number"], "Here": [], "Cell": ["row"], "Shifted": ["row", "by", "other"], "Local": ["at"],
@@ -11,6 +17,9 @@ FIELDS = {
     "Fold": ["target", "fold", "value", "many", "test"], "Running": ["target", "fold", "value", "test"],
     "Till": ["target", "most", "steps"], "Program": ["lengths", "functions", "steps"],
 }
+HALF = 2 ** 63
+SIGNS = ("+", "-", "*", "/", "rest", "least", "most", "<", "=", "&", "|", "^")
+FOLDS = ("sum", "product", "least", "most", "both", "either", "odd", "chain", "capped")
 SEAT_WORDS = ("number", "here", "load", "spread", "shift", "gather", "op", "pick", "copy", "bring")
 
 
@@ -288,6 +297,19 @@ def strip_of(bench, group, many, base):
     return bench
 
 
+def bench_and_model(by, lengths, cells):
+    """A bench and a model, both at the begin of the same strip, with the same dust."""
+    lanes, group, many, base = by.choice(STRIPS)
+    dust = [by.randrange(-9, 10) for _ in range(by.randrange(8))]
+    bench = Bench(lengths, cells, lanes, dust, [by.randrange(-9, 9)])
+    bench.open_round(many, group)
+    bench.begin_strip(base)
+    model = Model(lengths, cells, lanes, dust, strict=False)
+    model.begin(many, group)
+    model.strip(base)
+    return bench, model
+
+
 def seat_numbers(bench, seat):
     return [bench.boxes.number_at(bench.group, seat, lane) for lane in range(bench.group * bench.lanes)]
 
@@ -301,3 +323,93 @@ def lay_all(bench, seat, number_of):
 def lay_truths(bench, mask, truth_of):
     for lane in range(len(bench.masks[mask])):
         bench.masks[mask][lane] = truth_of(lane)
+
+
+class Sower:
+    """Makes sound programs and cells for them, by numbers that are the same at each run. Few elements refuse."""
+
+    def __init__(self, seed, lengths=(1, 1, 2, 3, 7, 30), sizes=(1, 2, 4, 8, 16)):
+        self.by = random.Random(seed)
+        self.sizes = sizes
+        self.lengths = [self.by.choice(lengths) for _ in range(self.by.randint(1, 5))]
+        self.functions = []
+        for _ in range(self.by.randrange(5)):
+            own = self.by.choice((0, 1, 2, 6))
+            self.functions.append((own, self.small([], [], own)))
+
+    def number(self):
+        return self.by.choice((0, 1, 2, 3, -1, 5, self.by.randrange(-40, 40), self.by.randrange(-HALF, HALF)))
+
+    def leaf(self, cells, rows, own):
+        kind = self.by.randrange(4)
+        if kind == 0 and cells:
+            return Cell(self.by.choice(cells))
+        if kind == 1 and rows:
+            return Shifted(self.by.choice(rows), self.by.choice((-400, -2, -1, 0, 1, 3, 400)), self.number())
+        if kind <= 1 and own:
+            return Local(self.by.randrange(own))
+        return Here() if kind == 2 else Number(self.number())
+
+    def form(self, size, cells, rows, own):
+        """A form of about that size; the cells' rows may be read by Cell, the others by Shifted and At."""
+        kind = self.by.choice(("pair", "pair", "choice", "at", "call", "leaf"))
+        if kind == "pair" and size >= 3:
+            left = self.by.randrange(1, size - 1)
+            sign, behind = self.by.choice(SIGNS), self.form(size - 1 - left, cells, rows, own)
+            if sign in ("/", "rest") and self.by.randrange(4):
+                behind = Pair("|", behind, Number(1))
+            return Pair(sign, self.form(left, cells, rows, own), behind)
+        if kind == "choice" and size >= 4:
+            return Choice(*[self.form((size - 1) // 3, cells, rows, own) for _ in range(3)])
+        if kind == "at" and size >= 2 and rows:
+            row, place = self.by.choice(rows), self.form(size - 1, cells, rows, own)
+            if self.by.randrange(8):
+                place = Pair("rest", place, Number(self.lengths[row]))
+            return At(row, place)
+        if kind == "call" and size >= 2 and self.functions:
+            at = self.by.randrange(len(self.functions))
+            many = self.functions[at][0]
+            return Call(at, [self.form(size // (many + 1), cells, rows, own) for _ in range(many)])
+        return self.leaf(cells, rows, own)
+
+    def small(self, cells, rows, own):
+        while True:
+            form = self.form(self.by.choice(self.sizes), cells, rows, own)
+            if size_of(form, self.functions) <= 60 and depth_of(form, self.functions) <= 7:
+                return form
+
+    def step(self):
+        kind, target = self.by.choice((Let, Put, Fold, Running)), self.by.randrange(len(self.lengths))
+        if kind is Fold and self.lengths[target] != 1:
+            return self.step()
+        many = self.lengths[target] if kind in (Let, Running) else self.by.choice(self.lengths + [11])
+        rows = [row for row in range(len(self.lengths)) if row != target]
+        cells = [row for row, length in enumerate(self.lengths)
+                 if length in (1, many) and (row != target or kind in (Let, Running))]
+        value, place, test = [self.small(cells, rows, 0) for _ in range(3)]
+        test = test if self.by.randrange(2) else None
+        if self.by.randrange(8):
+            place = Pair("rest", Here(), Number(self.lengths[target]))
+        if kind is Let:
+            return Let(target, value, test)
+        if kind is Put:
+            return Put(target, value, place, many, test)
+        if kind is Fold:
+            return Fold(target, self.by.choice(FOLDS), value, many, test)
+        return Running(target, self.by.choice(FOLDS), value, test)
+
+    def steps(self, most, deep):
+        told = []
+        for _ in range(self.by.randint(0, most)):
+            if deep and self.by.randrange(4) == 0:
+                told.append(Till(self.by.randrange(len(self.lengths)), self.by.choice((1, 2, 3, 5)),
+                                 self.steps(3, deep - 1)))
+            else:
+                told.append(self.step())
+        return told
+
+    def program(self):
+        return Program(self.lengths, self.functions, self.steps(6, 3))
+
+    def cells(self):
+        return [self.number() for _ in range(sum(self.lengths))]

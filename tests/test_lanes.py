@@ -3,7 +3,7 @@
 import random
 import unittest
 
-from helper import DUST, PATTERNS, SEAT_WORDS, STRIPS, Model, lay_all, lay_truths, seat_numbers, strip_of
+from helper import DUST, PATTERNS, SEAT_WORDS, STRIPS, bench_and_model, lay_all, lay_truths, seat_numbers, strip_of
 from rowbreadth.bench import Bench
 from rowbreadth.lanes import lays_seat, play_seat_step
 
@@ -229,14 +229,8 @@ class BesideTheModel(unittest.TestCase):
     def test_many_steps_behind_one_another(self):
         for seed in range(60):
             by = random.Random(seed)
-            lanes, group, many, base = by.choice(STRIPS)
-            dust = [by.randrange(-9, 10) for _ in range(by.randrange(8))]
-            bench = Bench(LENGTHS, CELLS, lanes, dust, [])
-            model = Model(LENGTHS, CELLS, lanes, dust, strict=False)
-            bench.open_round(many, group)
-            bench.begin_strip(base)
-            model.begin(many, group)
-            model.strip(base)
+            bench, model = bench_and_model(by, LENGTHS, CELLS)
+            lanes, group = bench.lanes, bench.group
             for mask in range(1, 16):
                 truths = [by.randrange(3) > 0 for _ in range(4 * lanes)]
                 bench.masks[mask] = list(truths)
