@@ -32,11 +32,11 @@ def play_quiet(bench, step):
 
 def play_till(bench, step):
     turns = bench.turns.pop()
-    count = turns[1] + 1
-    if not bench.raised and count >= step[1]:
-        bench.refusal = (step[2], step[1], "endless")
-    if bench.raised or count >= step[1]:
+    if bench.raised:
         return bench.at + 1
+    count = turns[1] + 1
+    if count >= step[1]:
+        bench.refusal = (step[2], step[1], "endless")
     bench.turns.append((turns[0], count))
     return turns[0] + 1
 

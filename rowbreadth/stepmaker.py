@@ -3,6 +3,7 @@
 from rowbreadth.maker import Aim, Maker, make_form, make_two
 from rowbreadth.needs import seats_for_step
 from rowbreadth.steps import Fold, Let, Put, Till, count_of
+from rowbreadth.stepwords import may_fault
 
 TEST_MASK = 1
 
@@ -38,10 +39,6 @@ def make_value(maker, step, mask):
     if isinstance(step, Fold):
         return ("fold", step.target, step.fold, 0, mask)
     return ("running", step.target, step.fold, 0, mask)
-
-
-def may_fault(step):
-    return step[0] in ("gather", "reach") or (step[0] == "op" and step[2] in ("/", "rest"))
 
 
 # The strip is trimmed ahead of its effect, so that nothing is done for the elements from the refused one on.

@@ -23,6 +23,11 @@ FOLDS = ("sum", "product", "least", "most", "both", "either", "odd", "chain", "c
 SEAT_WORDS = ("number", "here", "load", "spread", "shift", "gather", "op", "pick", "copy", "bring")
 
 
+# Where a step names the seats that it reads.
+SEATS_READ = {"gather": [2], "op": [3, 4], "pick": [2, 3], "copy": [2], "reach": [1], "choose": [2], "other": [2],
+              "save": [2], "store": [2], "put": [2, 3], "fold": [3], "running": [3], "any": [1]}
+
+
 def shown(thing):
     """The thing with its class's name and its fields, so that two of them can be set side by side."""
     if isinstance(thing, (list, tuple)):
@@ -65,15 +70,15 @@ class Model:
         self.dust_used += 1
         return self.dust[(self.dust_used - 1) % len(self.dust)] if self.dust else 0
 
-    def demand(self, truth, words):
+    def demand(self, truth, *words):
         if not truth:
-            raise Unsound(f"step {self.at}: {words}")
+            raise Unsound(("step", self.at) + words)
 
-    def demand_good(self, truth, words):
-        self.demand(truth or not self.strict, words)
+    def demand_good(self, truth, *words):
+        self.demand(truth or not self.strict, *words)
 
     def is_true(self, mask, lane):
-        self.demand_good(mask in self.good_masks, f"mask {mask} is read")
+        self.demand_good(mask in self.good_masks, "mask is read", mask)
         return self.masks.get((mask, lane), False)
 
     # Rounds and strips.
@@ -107,20 +112,21 @@ class Model:
         return [lane for lane in range(self.width) if self.is_true(mask, lane) and lane not in self.faults]
 
     def seat_place(self, seat, lane):
-        self.demand(0 <= seat < 8 // self.group, f"seat {seat} is named")
+        self.demand(0 <= seat < 8 // self.group, "seat is named", seat)
         return seat * self.group + lane // self.lanes, lane % self.lanes
 
     def seat(self, seat, lane):
         place = self.seat_place(seat, lane)
-        self.demand_good(lane in self.good_seats.get(seat, ()), f"lane {lane} of seat {seat} is read")
+        self.demand_good(lane in self.good_seats.get(seat, ()), "lane and seat are read", lane, seat)
         return self.boxes.get(place, 0)
 
     def address(self, row, place):
-        self.demand(0 <= row < len(self.lengths) and 0 <= place < self.lengths[row], f"cell {place} of row {row}")
+        there = 0 <= row < len(self.lengths) and 0 <= place < self.lengths[row]
+        self.demand(there, "cell and row are named", place, row)
         return sum(self.lengths[:row]) + place
 
     def slot_address(self, slot, lane):
-        self.demand(0 <= slot <= 59, f"slot {slot} is named")
+        self.demand(0 <= slot <= 59, "slot is named", slot)
         return len(self.cells) + slot * 4 * self.lanes + lane
 
     def touch(self, kind, address):
@@ -136,7 +142,7 @@ class Model:
 
     # The steps that lay a seat.
     def seat_step(self, step):
-        active, good = self.active(step[-1]), set()
+        active, good = set(self.active(step[-1])), set()
         self.spread = None
         for lane in range(self.group * self.lanes):
             number = None
@@ -186,7 +192,7 @@ class Model:
         return self.seat(q, lane)
 
     def lane_bring(self, lane, s, m):
-        self.demand_good(lane in self.good_slots.get(s, ()), f"lane {lane} of slot {s} is read")
+        self.demand_good(lane in self.good_slots.get(s, ()), "lane and slot are read", lane, s)
         self.touch("read", self.slot_address(s, lane))
         return self.slots.get((s, lane), 0)
 
@@ -207,7 +213,7 @@ class Model:
             self.refusal = (n, self.base + self.cut, self.faults[self.cut])
 
     def choose(self, k, p, m, wanted=True):
-        self.demand(1 <= k <= 15, f"mask {k} is laid")
+        self.demand(1 <= k <= 15, "mask is laid", k)
         active = self.active(m)
         truths = {lane: (self.seat(p, lane) != 0) == wanted for lane in active}
         for lane in range(self.width):
@@ -267,7 +273,7 @@ class Model:
 
     def play(self, step):
         word = step[0]
-        self.demand(word == "begin" or self.in_round == (word not in ("turns", "quiet", "till")), f"{word} stands here")
+        self.demand(word == "begin" or self.in_round == (word not in ("turns", "quiet", "till")), "stands here", word)
         if word in SEAT_WORDS:
             self.seat_step(step)
         else:
@@ -413,3 +419,123 @@ class Sower:
 
     def cells(self):
         return [self.number() for _ in range(sum(self.lengths))]
+
+
+class Coder:
+    """Makes sound code, by numbers that are the same at each run: of steps laid for nothing, and twice, too.
+
+    A mask is known by when it was laid; whatever is laid under a mask may be read under it and under those that
+    were chosen out of it. Rows 0 and 1 are as long as any round, row 2 has one cell, row 3 three.
+    """
+
+    LENGTHS = [9, 9, 1, 3]
+
+    def __init__(self, seed):
+        self.by = random.Random(seed)
+
+    def begin(self):
+        self.group, self.many = self.by.choice((1, 2, 4)), self.by.randrange(1, 10)
+        self.strip, self.masks, self.parents, self.seats, self.slots, self.pairs = [], {0: 0}, {0: None}, {}, {}, {}
+
+    def within(self, mask, wide):
+        while mask is not None:
+            if mask == wide:
+                return True
+            mask = self.parents[mask]
+        return False
+
+    def readable(self, held, mask):
+        return [at for at, laid in held.items() if self.within(mask, laid)]
+
+    def add(self, step):
+        """Tells whether the step can stand here; where it can, it does."""
+        word, mask = step[0], self.masks.get(step[-1]) if len(step) > 2 else 0
+        if mask is None:
+            return False
+        good = self.readable(self.seats, mask)
+        if word == "pick" and not self.can_pick(step, mask, good):
+            return False
+        if word != "pick" and any(step[at] not in good for at in SEATS_READ.get(word, [])):
+            return False
+        if word == "bring" and step[2] not in self.readable(self.slots, mask):
+            return False
+        self.strip.append(step)
+        if word in SEAT_WORDS:
+            self.seats[step[1]] = mask
+        elif word in ("choose", "other"):
+            self.masks[step[1]] = len(self.strip)
+            self.parents[len(self.strip)] = mask
+        elif word == "save":
+            self.slots[step[1]] = mask
+        return True
+
+    def can_pick(self, step, mask, good):
+        k = self.masks.get(step[4])
+        if k is None:
+            return False
+        left = step[2] in good or step[2] in self.readable(self.seats, k)
+        # The lanes that a choose leaves out of the mask it stands under are those of the other beside it.
+        wide, beside = self.pairs.get(k, (None, None))
+        right = step[3] in good or (wide is not None and self.within(mask, wide)
+                                    and step[3] in self.readable(self.seats, beside))
+        return left and right
+
+    def choose_both(self, p, m):
+        k, other = self.by.sample(range(1, 5), 2)
+        if k != m and self.add(("choose", k, p, m)) and self.add(("other", other, p, m)) and other != m:
+            self.pairs[self.masks[k]] = (self.masks[m], self.masks[other])
+
+    def random_step(self):
+        by, p, q, r = self.by, *[self.by.randrange(min(4, 8 // self.group)) for _ in range(3)]
+        m, k, s, row = by.choice((0, 0, 1, 2, 3, 4)), by.randrange(1, 5), by.randrange(3), by.randrange(4)
+        return by.choice((
+            ("number", p, by.choice((0, 1, 2, -1, 5, HALF - 1)), m), ("number", p, by.choice((0, 1, 2, 7)), m),
+            ("here", p, m), ("load", p, by.randrange(2), m), ("spread", p, row, m),
+            ("shift", p, row, by.randrange(-7, 8), 4, m), ("gather", p, q, row, m),
+            ("op", p, by.choice(SIGNS), q, r, m), ("op", p, by.choice(SIGNS), q, r, m),
+            ("op", p, by.choice(("/", "rest")), q, r, m), ("pick", p, q, r, k, m), ("pick", p, q, r, k, m),
+            ("copy", p, q, m), ("bring", p, s, m), ("save", s, p, m), ("reach", p, by.randrange(1, 30), m),
+            ("choose", k, p, m), ("other", k, p, m), ("store", by.randrange(2), p, m),
+            ("fold", row, by.choice(FOLDS), p, m), ("running", by.randrange(2), by.choice(FOLDS), p, m), ("any", p, m)))
+
+    def round(self, size):
+        self.begin()
+        for _ in range(size):
+            kind = self.by.randrange(8)
+            if kind == 0 and self.strip and self.strip[-1][0] != "put":
+                self.add(self.by.choice([step for step in self.strip[-6:] if step[0] != "put"]))
+            elif kind == 1:
+                self.choose_both(self.by.randrange(8 // self.group), self.by.choice((0, 1, 2)))
+            elif kind == 2:
+                row, (q, p) = self.by.randrange(4), [self.by.randrange(min(4, 8 // self.group)) for _ in range(2)]
+                m = self.by.choice((0, 1))
+                if self.masks.get(m) is not None and {q, p} <= set(self.readable(self.seats, self.masks[m])):
+                    self.add(("reach", q, self.LENGTHS[row], m))
+                    self.add(("put", row, q, p, m))
+            elif kind == 3 and self.by.randrange(4) == 0:
+                self.add(("trim",))
+                if self.by.randrange(3):
+                    self.add(("stop", self.by.randrange(40)))
+            elif kind == 4 and self.slots:
+                seat, slot = self.by.randrange(8 // self.group), self.by.choice(sorted(self.slots))
+                self.add(("bring", seat, slot, self.by.choice((0, 1))))
+            else:
+                while not self.add(self.random_step()):
+                    pass
+        return [("begin", self.many, self.group)] + self.strip + [("next",)]
+
+    def code(self, deep=1):
+        told = []
+        for _ in range(self.by.randrange(1, 4)):
+            if deep and self.by.randrange(3) == 0:
+                raised = [("begin", 1, 1), ("number", 0, self.by.randrange(4), 0), ("any", 0, 0), ("next",)]
+                told += [("turns",)] + self.code(deep - 1) + raised
+                told.append(("till", self.by.randrange(1, 4), self.by.randrange(40)))
+            elif self.by.randrange(6) == 0:
+                told.append(("quiet",))
+            else:
+                told += self.round(self.by.choice((4, 12, 30)))
+        return told
+
+    def cells(self):
+        return [self.by.choice((0, 1, 2, 5, -3, HALF - 1)) for _ in range(sum(self.LENGTHS))]

@@ -2,7 +2,7 @@
 
 import unittest
 
-from helper import FOLDS, HALF, SIGNS, Model, Sower, shown
+from helper import FOLDS, HALF, SEAT_WORDS, SEATS_READ, SIGNS, Model, Sower, shown
 from rowbreadth.forms import At, Call, Cell, Choice, Here, Local, Number, Pair, Shifted
 from rowbreadth.looks import crossed, depth_of, size_of, uneven
 from rowbreadth.machine import ran
@@ -33,10 +33,31 @@ def touches_lie_well(code, program, lanes, touches):
             slot = step[1] if step[0] == "save" else step[2]
             first, length = total + slot * 4 * lanes, 4 * lanes
         else:
-            row = {"load": 2, "spread": 2, "shift": 2, "gather": 3, "store": 1, "put": 1, "fold": 1, "running": 1}[step[0]]
-            first, length = sum(program.lengths[:step[row]]), program.lengths[step[row]]
+            row = step[ROW_AT[step[0]]]
+            first, length = sum(program.lengths[:row]), program.lengths[row]
         if not first <= address < first + length:
             return False
+    return True
+
+
+ROW_AT = {"load": 2, "spread": 2, "shift": 2, "gather": 3, "store": 1, "put": 1, "fold": 1, "running": 1}
+
+
+def names_are_there(code, lengths):
+    """Every seat, mask, slot and row that the code names is there, and mask 0 is laid by no step."""
+    group = None
+    for step in code:
+        group = step[2] if step[0] == "begin" else group
+        seats = [step[at] for at in SEATS_READ.get(step[0], [])] + ([step[1]] if step[0] in SEAT_WORDS else [])
+        masks = [step[-1]] if seats else []
+        masks += [step[4]] if step[0] == "pick" else []
+        laid = [step[1]] if step[0] in ("choose", "other") else []
+        slots = {"save": [step[-3]], "bring": [step[-2]]}.get(step[0], []) if seats else []
+        rows = [step[ROW_AT[step[0]]]] if step[0] in ROW_AT else []
+        for named, there in ((seats, range(8 // group) if group else []), (masks, range(16)), (laid, range(1, 16)),
+                             (slots, range(60)), (rows, range(len(lengths)))):
+            if any(at not in there for at in named):
+                return False
     return True
 
 
@@ -72,6 +93,7 @@ class Making(unittest.TestCase):
             if step[0] == "begin":
                 self.assertIn(step[2], (1, 2, 4) if group == 0 else (group,))
         self.assertEqual(turns_in(code), tills_of(program.steps)[0])
+        self.assertTrue(names_are_there(code, program.lengths))
 
     def same(self, program, cells, groups=GROUPS, lanes=LANES):
         """What the machine tells is what the plain play tells, and a strict model finds the code sound."""
@@ -175,7 +197,7 @@ class Refusals(Making):
     FUNCTIONS = [(1, Pair("/", Number(7), Local(0))), (1, Number(7))]
 
     def check(self, steps, number, place, kind):
-        told = self.step(*steps, functions=self.FUNCTIONS, lanes=(1, 3, 64))
+        told = self.step(*steps, functions=self.FUNCTIONS, lanes=(1, 3))
         self.assertEqual(told[1], (number, place, "outside" if kind in OUTSIDE else "nought"))
 
     def test_of_the_value(self):
@@ -208,7 +230,7 @@ class Refusals(Making):
         test = Pair("-", Here(), Number(3))
         for kind in KINDS:
             for step in each_step(refuses_at(3, kind), test):
-                self.assertIsNone(self.step(step, functions=self.FUNCTIONS, lanes=(1, 3, 64))[1])
+                self.assertIsNone(self.step(step, functions=self.FUNCTIONS, lanes=(1, 3))[1])
         self.assertIsNone(self.step(Put(3, Here(), Pair("/", NOUGHT, test), 7, test))[1])
 
     def test_the_first_refusal_of_an_element_counts(self):
@@ -265,7 +287,7 @@ class LargeForms(Making):
             self.assertEqual(depth_of(form, list(functions)), depth)
         place = Pair("rest", form, Number(3)) if size_of(form, list(functions)) <= 58 else Number(1)
         for step in each_step(form) + each_step(form, form, place):
-            self.step(step, functions=functions, lanes=(1, 2, 7))
+            self.step(step, functions=functions, lanes=(1, 3))
 
     def test_right_and_left_nests(self):
         for sign in ("+", "-", "<"):
@@ -335,7 +357,7 @@ class LargeForms(Making):
         place = Pair("rest", right, Number(3))
         for value in (right, nest(7, lambda form, at: Choice(leaf(at), form, Here())), Here()):
             for where in (place, Pair("rest", nest(6, lambda form, at: Choice(leaf(at), form, Here())), Number(3)), ONE):
-                self.step(Put(3, value, where, 7, Pair("+", Cell(0), right)), lanes=(1, 2, 7))
+                self.step(Put(3, value, where, 7, Pair("+", Cell(0), right)), lanes=(2,))
         self.step(Put(3, Call(0, [leaf(at) for at in range(6)]), Pair("rest", Call(0, [leaf(at) for at in range(6)]),
                                                                      Number(3)), 7), functions=self.SIX)
 
@@ -425,7 +447,7 @@ class ManyPrograms(Making):
 
     def test_sown(self):
         kinds = {}
-        for seed in range(250):
+        for seed in range(200):
             sower = Sower(seed)
             program, cells = sower.program(), sower.cells()
             self.is_sound(program)
@@ -450,6 +472,16 @@ class ManyPrograms(Making):
                 code = made(program, group)
                 told = [ran(code, program.lengths, cells, 3, dust, picks) for dust in DUSTS for picks in DUSTS]
                 self.assertEqual(told[1:], told[:-1])
+
+
+class Named(unittest.TestCase):
+    def test_what_is_not_there_is_seen(self):
+        for step in (("here", 8, 0), ("here", 0, 16), ("op", 0, "+", 8, 0, 0), ("choose", 0, 0, 0), ("choose", 16, 0, 0),
+                     ("save", 60, 0, 0), ("bring", 0, 60, 0), ("load", 0, 2, 0), ("put", 2, 0, 0, 0), ("copy", 0, -1, 0),
+                     ("pick", 0, 0, 0, 16, 0)):
+            self.assertFalse(names_are_there([("begin", 5, 1), step, ("next",)], [5, 5]))
+        self.assertTrue(names_are_there([("begin", 5, 4), ("here", 1, 15), ("save", 59, 1, 0), ("next",)], [5, 5]))
+        self.assertFalse(names_are_there([("begin", 5, 4), ("here", 2, 15), ("next",)], [5, 5]))
 
 
 class OwnChoice(Making):
