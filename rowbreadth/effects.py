@@ -23,16 +23,18 @@ def play_stop(bench, step):
         bench.refusal = (step[1], bench.base + bench.cut, bench.faults[bench.cut])
 
 
-def play_choose(bench, step):
+def lay_chosen(bench, step, nought):
     active = bench.active_under(step[3])
     numbers = bench.numbers_in(step[2], active)
-    bench.lay_mask(step[1], [lane for lane, number in zip(active, numbers) if number != 0])
+    bench.lay_mask(step[1], [lane for lane, number in zip(active, numbers) if (number == 0) == nought])
+
+
+def play_choose(bench, step):
+    lay_chosen(bench, step, False)
 
 
 def play_other(bench, step):
-    active = bench.active_under(step[3])
-    numbers = bench.numbers_in(step[2], active)
-    bench.lay_mask(step[1], [lane for lane, number in zip(active, numbers) if number == 0])
+    lay_chosen(bench, step, True)
 
 
 def play_save(bench, step):
